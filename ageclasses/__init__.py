@@ -1,0 +1,1 @@
+"""Age classes: what becomes of a herd that is told by its ages."""
