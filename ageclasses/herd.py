@@ -1,11 +1,16 @@
 """The calls: they are read from one list, refused or answered, and the answers given back as one list."""
 
-from ageclasses.lives import Life, births_to_come, herd_births_to_come, numbers_after, power, rests_after, years_to_live
+from ageclasses.leaning import ages_to_one_another, bearable_takes, births_rhythm
+from ageclasses.leaning import mean_age_at_births, share_of_births, shares_above
+from ageclasses.lives import Life, births_to_come, herd_births_to_come, share_reaching, years_to_live
+from ageclasses.ratios import power
+from ageclasses.years import newborn_after, numbers_after, rests_after
 
 NO_LIFE = -1
 WHOLE_OUT_OF_RANGE = -3
 LIST_OUT_OF_RANGE = -4
 TOO_GREAT = -5
+NET_UNFIT = -6
 
 MOST_PARTS = 20
 MOST_AGES = 8
@@ -132,8 +137,88 @@ def answer_years(life, wholes, rows):
     return list(years_to_live(life))
 
 
+def no_births_to_come(life):
+    return births_to_come(life, 0) == (0, 1)
+
+
+def answer_share(life, wholes, rows):
+    i = wholes[0]
+    if not within(i, 0, life.ages - 1):
+        return [WHOLE_OUT_OF_RANGE]
+    if no_births_to_come(life):
+        return [NET_UNFIT]
+    return list(share_of_births(life, i))
+
+
+def answer_leaned(life, wholes, rows):
+    j = wholes[0]
+    if not within(j, 0, life.ages - 2):
+        return [WHOLE_OUT_OF_RANGE]
+    if no_births_to_come(life):
+        return [NET_UNFIT]
+    return list(shares_above(life, j))
+
+
+def answer_age(life, wholes, rows):
+    if no_births_to_come(life):
+        return [NET_UNFIT]
+    return list(mean_age_at_births(life))
+
+
+def answer_spare(life, wholes, rows):
+    takes = bearable_takes(life)
+    if len(takes) == 0:
+        return [NET_UNFIT]
+    return [max(takes)]
+
+
+def answer_steady(life, wholes, rows):
+    if births_to_come(life, 0) != (1, 1):
+        return [NET_UNFIT]
+    return [0] + ages_to_one_another(life)
+
+
+def answer_rhythm(life, wholes, rows):
+    return [births_rhythm(life)]
+
+
+def answer_births(life, wholes, rows):
+    t = wholes[0]
+    if not within(t, 0, MOST_YEARS):
+        return [WHOLE_OUT_OF_RANGE]
+    answer = [newborn_after(life, t), power(life.d, t)]
+    if max(answer) > GREATEST_TOLD:
+        return [TOO_GREAT]
+    return answer
+
+
+def answer_reached(life, wholes, rows):
+    i = wholes[0]
+    if not within(i, 0, life.ages - 1):
+        return [WHOLE_OUT_OF_RANGE]
+    return list(share_reaching(life, i))
+
+
 # For each call, by its number: how many whole numbers and how many lists it has.
-SHAPES = {0: (1, 2), 1: (0, 0), 2: (1, 1), 3: (2, 1), 4: (0, 0), 5: (0, 1), 6: (1, 0), 7: (0, 1), 8: (0, 0)}
+SHAPES = {
+    0: (1, 2),
+    1: (0, 0),
+    2: (1, 1),
+    3: (2, 1),
+    4: (0, 0),
+    5: (0, 1),
+    6: (1, 0),
+    7: (0, 1),
+    8: (0, 0),
+    9: (1, 0),
+    10: (1, 0),
+    11: (0, 0),
+    12: (0, 0),
+    13: (0, 0),
+    14: (0, 0),
+    15: (1, 0),
+    16: (1, 0),
+}
 
 # The life call is not here: it alone is done without a life, and changes which one is held.
 ANSWERING = {
@@ -145,6 +230,14 @@ ANSWERING = {
     6: answer_value,
     7: answer_worth,
     8: answer_years,
+    9: answer_share,
+    10: answer_leaned,
+    11: answer_age,
+    12: answer_spare,
+    13: answer_steady,
+    14: answer_rhythm,
+    15: answer_births,
+    16: answer_reached,
 }
 
 

@@ -20,6 +20,10 @@ def life(d, births, stays):
 TOLD = [1]
 NET = [4]
 YEARS = [8]
+AGE = [11]
+SPARE = [12]
+STEADY = [13]
+RHYTHM = [14]
 
 
 def after(t, x):
@@ -40,6 +44,22 @@ def value(i):
 
 def worth(x):
     return [7] + row(x)
+
+
+def share_at(i):
+    return [9, i]
+
+
+def leaned(j):
+    return [10, j]
+
+
+def births_in(t):
+    return [15, t]
+
+
+def reached(i):
+    return [16, i]
 
 
 def ask(*calls):
@@ -101,15 +121,25 @@ def worth_of(a_life, x):
     return sum((n * value_of(a_life, i) for i, n in enumerate(x)), Fraction(0))
 
 
+def reached_of(a_life, i):
+    d, _, stays = a_life
+    share = Fraction(1)
+    for stay in stays[:i]:
+        share *= Fraction(stay, d)
+    return share
+
+
 def years_of(a_life):
-    d, births, stays = a_life
-    total = Fraction(0)
-    for i in range(len(births)):
-        share = Fraction(1)
-        for j in range(i):
-            share *= Fraction(stays[j], d)
-        total += share
-    return total
+    return sum(reached_of(a_life, i) for i in range(len(a_life[1])))
+
+
+def shares_of(a_life):
+    """Each age's share of a newborn's births to come, or None where there are none to come."""
+    d, births, _ = a_life
+    parts = [Fraction(n, d) * reached_of(a_life, i) for i, n in enumerate(births)]
+    if sum(parts) == 0:
+        return None
+    return [part / sum(parts) for part in parts]
 
 
 def random_life(source):
@@ -119,6 +149,22 @@ def random_life(source):
     births = [source.choice([0, source.randint(0, most)]) for _ in range(ages)]
     stays = [source.choice([0, d, source.randint(0, d), source.randint(0, d)]) for _ in range(ages - 1)]
     return d, births, stays
+
+
+def random_steady_life(source, ages):
+    """One with R just 1: what is still due is put upon the last age, if that age can bear it."""
+    while True:
+        d = source.choice([1, 2, 4, 6, 12, 20])
+        births = []
+        stays = []
+        due = Fraction(1)
+        for _ in range(ages - 1):
+            births.append(source.choice([0, 0, source.randint(0, d)]))
+            stays.append(source.randint(1, d))
+            due = (due - Fraction(births[-1], d)) * d / stays[-1]
+        last = due * d
+        if last.denominator == 1 and 0 <= last <= 1000:
+            return d, births + [int(last)], stays
 
 
 def random_herd(source, a_life):

@@ -58,6 +58,16 @@ def bound_names(tree):
     return names
 
 
+def top_names(tree):
+    """What a file itself defines at its top, imports left out."""
+    defined = [node.name for node in tree.body if isinstance(node, (ast.FunctionDef, ast.ClassDef))]
+    return defined + [node.targets[0].id for node in tree.body if isinstance(node, ast.Assign)]
+
+
+def drawn_from(tree):
+    return [node.module.split(".")[1] for node in tree.body if isinstance(node, ast.ImportFrom)]
+
+
 class Files(unittest.TestCase):
     def test_only_plain_files(self):
         found = [path.name for path in PACKAGE.iterdir() if path.name != "__pycache__"]
@@ -104,6 +114,31 @@ class Forms(unittest.TestCase):
         for name, node in walk(ast.ImportFrom):
             self.assertEqual(node.level, 0, name)
             self.assertRegex(node.module, r"^ageclasses\.[a-z_]+$", name)
+
+    def test_imports_from_the_file_that_defines(self):
+        defined = {name: top_names(tree) for name, tree in trees()}
+        for name, node in walk(ast.ImportFrom):
+            for alias in node.names:
+                self.assertIsNone(alias.asname, name)
+                self.assertIn(alias.name, defined[node.module.split(".")[1] + ".py"], name)
+
+    def test_no_two_files_draw_from_one_another(self):
+        left = {name[:-3]: drawn_from(tree) for name, tree in trees()}
+        while left:
+            ready = [name for name, sources in left.items() if not set(sources) & set(left)]
+            self.assertNotEqual(ready, [], left)
+            for name in ready:
+                del left[name]
+
+    def test_no_local_is_called_like_an_import_or_a_class(self):
+        for name, tree in trees():
+            kept = {alias.name for node in tree.body if isinstance(node, ast.ImportFrom) for alias in node.names}
+            kept |= {node.name for node in tree.body if isinstance(node, ast.ClassDef)}
+            for node in ast.walk(tree):
+                if isinstance(node, ast.arg):
+                    self.assertNotIn(node.arg, kept, name)
+                elif isinstance(node, ast.Name) and isinstance(node.ctx, ast.Store):
+                    self.assertNotIn(node.id, kept, name)
 
     def test_names(self):
         for name, tree in trees():

@@ -1,6 +1,7 @@
 import unittest
 
-from support import GREATEST, LEAST, LIVES, NET, TOLD, YEARS, after, ask, ask_of, far, fate, life, value, worth
+from support import (AGE, GREATEST, LEAST, LIVES, NET, RHYTHM, SPARE, STEADY, TOLD, YEARS, after, ask, ask_of,
+                     births_in, far, fate, leaned, life, reached, share_at, value, worth)
 
 FIRST = (5, [1, 2, 3], [4, 5])
 FIRST_TOLD = [0, 5, 3, 1, 2, 3, 4, 5]
@@ -91,6 +92,7 @@ class Refused(unittest.TestCase):
 class WithoutLife(unittest.TestCase):
     def test_minus_one_of_all_but_life(self):
         calls = [TOLD, after(1, [1]), far(1, 1, [1]), NET, fate([1]), value(0), worth([1]), YEARS]
+        calls += [share_at(0), leaned(0), AGE, SPARE, STEADY, RHYTHM, births_in(0), reached(0)]
         self.assertEqual(ask(*calls), [[-1]] * len(calls))
 
     def test_minus_one_ahead_of_others(self):
@@ -99,6 +101,8 @@ class WithoutLife(unittest.TestCase):
             far(-1, 0, []), far(0, 0, [1]), far(0, 1, [-1]),
             fate([]), fate([-1]), value(-1), value(GREATEST), value(LEAST), worth([]), worth([GREATEST]),
         ]
+        for number in (-1, 8, 40, 41, LEAST, GREATEST):
+            calls += [share_at(number), leaned(number), births_in(number), reached(number)]
         self.assertEqual(ask(*calls), [[-1]] * len(calls))
 
     def test_life_comes_later(self):
@@ -107,21 +111,26 @@ class WithoutLife(unittest.TestCase):
 
     def test_refused_life_is_none(self):
         self.assertEqual(ask(life(0, [1], []), NET, life(1, [], []), YEARS), [[-3], [-1], [-4], [-1]])
+        self.assertEqual(ask(life(0, [1], []), SPARE, life(1, [], []), reached(0)), [[-3], [-1], [-4], [-1]])
 
 
 class NothingChanges(unittest.TestCase):
     def test_refusals_leave_the_life(self):
         calls = [
             after(41, [1, 2, 3]), after(1, [1, 2]), after(40, [1, 2, 3]), far(-1, 1, [1, 2, 3]),
-            far(1, 1, []), fate([1]), value(3), worth([10001, 0, 0]),
+            far(1, 1, []), fate([1]), value(3), worth([10001, 0, 0]), share_at(3), leaned(2), births_in(41),
+            births_in(40), reached(3),
         ]
-        refusals = [[-3], [-4], [-5], [-3], [-4], [-4], [-3], [-4]]
+        refusals = [[-3], [-4], [-5], [-3], [-4], [-4], [-3], [-4], [-3], [-3], [-3], [-5], [-3]]
+        self.assertEqual(len(calls), len(refusals))
         for call, refusal in zip(calls, refusals):
             self.assertEqual(ask_of(FIRST, TOLD, call, TOLD), [FIRST_TOLD, refusal, FIRST_TOLD])
 
     def test_answers_leave_the_life(self):
         x = [3, 2, 1]
-        for call in (after(3, x), far(99, 7, x), NET, fate(x), value(1), worth(x), YEARS):
+        calls = [after(3, x), far(99, 7, x), NET, fate(x), value(1), worth(x), YEARS]
+        calls += [share_at(1), leaned(1), AGE, SPARE, STEADY, RHYTHM, births_in(3), reached(2)]
+        for call in calls:
             split = ask_of(FIRST, TOLD, call, TOLD, call)
             self.assertEqual(split[0], FIRST_TOLD)
             self.assertEqual(split[2], FIRST_TOLD)

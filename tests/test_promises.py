@@ -2,7 +2,12 @@ import random
 import unittest
 from fractions import Fraction
 
-from support import LIVES, NET, after, ask_of, fate, random_herd, random_life, worth, worth_of, years_on
+from support import (LIMIT, LIVES, NET, after, ask_of, births_in, far, fate, leaned, random_herd, random_life,
+                     random_steady_life, scaled_years_on, share_at, value_of, worth, worth_of, years_on)
+
+
+def twice(numbers, place):
+    return numbers[:place] + [2 * numbers[place]] + numbers[place + 1:]
 
 
 def fate_told(a_life, x):
@@ -109,6 +114,71 @@ class YearChangesWorth(unittest.TestCase):
             ages = len(a_life[1])
             for i in range(ages):
                 self.assertTrue(self.year_holds(a_life, [0] * i + [1] + [0] * (ages - 1 - i)))
+
+
+class FarIsRight(unittest.TestCase):
+    """Promise 3."""
+
+    def test_each_year_follows_from_the_one_before(self):
+        source = random.Random(33)
+        for a_life in LIVES:
+            d, births, stays = a_life
+            q = source.randint(1, 10 ** 9)
+            x = random_herd(source, a_life)
+            for t in (0, 1, 40, 10 ** 9, source.randint(0, LIMIT), LIMIT - 1):
+                split = ask_of(a_life, far(t, q, x), far(t + 1, q, x))
+                before, later = split[0][1:], split[1][1:]
+                newborn = sum(b * n for b, n in zip(births, before))
+                grown = [s * n for s, n in zip(stays, before)]
+                self.assertEqual(later, [n % q for n in [newborn] + grown], (a_life, t, q, x))
+
+    def test_rests_of_births(self):
+        for a_life in LIVES:
+            one = [1] + [0] * (len(a_life[1]) - 1)
+            for t in range(41):
+                told, rests = ask_of(a_life, births_in(t), far(t, 9973, one))
+                number = scaled_years_on(a_life, t, one)[0] if told == [-5] else told[0]
+                self.assertEqual(rests[1], number % 9973, (a_life, t))
+
+
+class TwiceAdds(unittest.TestCase):
+    """Promise 4: by the program's answers alone where the changed life is one, else by the exact reckoning."""
+
+    def net_of(self, a_life):
+        d, births, stays = a_life
+        if max(births) > 1000 or max(stays, default=0) > d:
+            return value_of(a_life, 0)
+        self.asked += 1
+        return Fraction(*ask_of(a_life, NET)[0])
+
+    def promise_holds(self, a_life):
+        d, births, stays = a_life
+        net = self.net_of(a_life)
+        for i in range(len(births)):
+            share = Fraction(*ask_of(a_life, share_at(i))[0])
+            more = self.net_of((d, twice(births, i), stays)) - net
+            self.assertEqual(more, share * net, (a_life, i))
+        for j in range(len(stays)):
+            share = Fraction(*ask_of(a_life, leaned(j))[0])
+            more = self.net_of((d, births, twice(stays, j))) - net
+            self.assertEqual(more, share * net, (a_life, j))
+
+    def test_by_hand(self):
+        # R is 1/4 + 3/4 * 2/4 = 5/8; twice the first births add 2/8, twice the second 3/8, as does twice the stay.
+        a_life = (4, [1, 3], [2])
+        self.assertEqual(ask_of(a_life, NET, share_at(0), share_at(1), leaned(0)), [[5, 8], [2, 5], [3, 5], [3, 5]])
+        self.assertEqual(ask_of((4, [2, 3], [2]), NET), [[7, 8]])
+        self.assertEqual(ask_of((4, [1, 6], [2]), NET), [[1, 1]])
+        self.assertEqual(ask_of((4, [1, 3], [4]), NET), [[1, 1]])
+
+    def test_many_lives(self):
+        source = random.Random(34)
+        self.asked = 0
+        lives = [random_steady_life(source, ages) for ages in range(1, 9)] + [random_life(source) for _ in range(200)]
+        for a_life in LIVES + lives:
+            if value_of(a_life, 0) > 0:
+                self.promise_holds(a_life)
+        self.assertGreater(self.asked, 400)
 
 
 if __name__ == "__main__":
